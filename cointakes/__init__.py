@@ -1,0 +1,1 @@
+"""Cointakes: coins that are taken head up and turn their neighbours."""

@@ -1,0 +1,89 @@
+"""Texts of layings: point 4."""
+
+from cointakes.checks import MOST_PLACES, check_laying, check_web
+from cointakes.errors import InvalidText, NotText
+
+COINS = {"H": 1, "T": 0, ".": None}
+SIGNS = {1: "H", 0: "T", None: "."}
+DIGITS = "0123456789"
+
+
+def write_laying(web, laying):
+    """The text of a web and a laying."""
+    check_web(web)
+    check_laying(web, laying)
+    coins = "".join([SIGNS[coin] for coin in laying])
+    if not web[1]:
+        return coins
+    edges = " ".join([f"{low}-{high}" for low, high in web[1]])
+    return f"{coins}: {edges}"
+
+
+def read_laying(text):
+    """The pair (web, laying) that a text names."""
+    if not isinstance(text, str):
+        raise NotText("not a string")
+    coins, end = read_coins(text)
+    edges = ()
+    if end < len(text):
+        edges = read_edges(text, end + 1, len(coins))
+    return (len(coins), edges), coins
+
+
+def read_coins(text):
+    """The coins that a text begins with, and the index of the ":" behind them, or the length of the text."""
+    coins = []
+    for at, sign in enumerate(text):
+        if sign == ":" and coins:
+            return tuple(coins), at
+        if sign in COINS and len(coins) < MOST_PLACES:
+            coins.append(COINS[sign])
+        elif sign != " ":
+            raise InvalidText(at)
+    if not coins:
+        raise InvalidText(len(text))
+    return tuple(coins), len(text)
+
+
+def read_edges(text, start, many):
+    """The edges from an index on, up to the end of the text."""
+    edges = []
+    at = start
+    while at < len(text):
+        if text[at] == " ":
+            at += 1
+            continue
+        edge = read_edge(text, at, many)
+        # Ahead of what is wrong with the second digit: the first digit stands further left.
+        if edges and edge <= edges[-1]:
+            raise InvalidText(at)
+        if edge[1] >= many or edge[1] <= edge[0]:
+            raise InvalidText(at + 2)
+        at += 3
+        if text[at:at + 1] not in ("", " "):
+            raise InvalidText(at)
+        edges.append(edge)
+    if not edges:
+        raise InvalidText(len(text))
+    return tuple(edges)
+
+
+def read_edge(text, at, many):
+    """The pair of a place and a digit, parted by "-", at an index."""
+    low = digit_at(text, at)
+    if low is None or low >= many:
+        raise InvalidText(at)
+    if text[at + 1:at + 2] != "-":
+        raise InvalidText(at + 1)
+    high = digit_at(text, at + 2)
+    if high is None:
+        raise InvalidText(at + 2)
+    return low, high
+
+
+def digit_at(text, at):
+    """The digit at an index, None if none stands there."""
+    sign = text[at:at + 1]
+    if sign == "" or sign not in DIGITS:
+        return None
+    return DIGITS.index(sign)

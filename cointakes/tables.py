@@ -1,0 +1,45 @@
+"""Tables over all states of a web; a state is the set of its taken places, as in masks.py."""
+
+from cointakes.masks import head_mask, lowest_in, near_masks, places_in
+
+
+def ready_table(web, laying):
+    """For each state the set of the places with heads up."""
+    near = near_masks(web)
+    turned = [head_mask(laying)]
+    for state in range(1, 1 << web[0]):
+        turned.append(turned[state & (state - 1)] ^ near[lowest_in(state)])
+    return [heads & ~state for state, heads in enumerate(turned)]
+
+
+def on_table(ready):
+    """For each state the number of orders in which all coins left can be taken."""
+    on = [0] * len(ready)
+    on[-1] = 1
+    for state in reversed(range(len(ready) - 1)):
+        on[state] = sum([on[state | 1 << place] for place in places_in(ready[state])])
+    return on
+
+
+def to_table(ready):
+    """For each state the number of orders in which just its coins can be taken."""
+    to = [0] * len(ready)
+    to[0] = 1
+    for state, heads in enumerate(ready):
+        for place in places_in(heads):
+            to[state | 1 << place] += to[state]
+    return to
+
+
+def clear_masks(web):
+    """The ascending list of the sets of heads of all full layings that can be cleared."""
+    near = near_masks(web)
+    found = [{0: True}]
+    for left in range(1, 1 << web[0]):
+        heads = {}
+        for place in places_in(left):
+            turned = near[place] & left
+            for behind in found[left ^ 1 << place]:
+                heads[(behind ^ turned) | 1 << place] = True
+        found.append(heads)
+    return sorted(found[-1])

@@ -1,0 +1,132 @@
+"""Wrong arguments: each one of each function, in each way that its point names."""
+
+import unittest
+from itertools import combinations
+
+from cointakes import errors, layingtext, orders, ways, webs
+from exact import ExactCase
+
+WEB = (3, ((0, 1), (1, 2)))
+ODD = (None, True, False, -1, 10, 2 ** 70, "", "web", "012", [], {}, {0: 1}, [0, 1, 2], ("0", "1", "2"), ((),), {"a": ()})
+
+
+def plain(name, *values):
+    return [(value, getattr(errors, name), {}) for value in values]
+
+
+def at(name, index, *values):
+    return [(value, getattr(errors, name), {"index": index}) for value in values]
+
+
+NO_LAYINGS = (
+    at("BadLaying", None, *ODD, (), (1, 1), (1, 1, 1, 1), [1, 1, 1], 7, "HTH")
+    + at("BadLaying", 0, (2, 1, 1), (True, 1, 1), (False, 1, 1), ("1", 1, 1), (-1, 3, 4), ((1,), 1, 1), ([], None, {}))
+    + at("BadLaying", 1, (1, 2, 1), (1, True, 1), (0, "H", 2), (0, {}, 1))
+    + at("BadLaying", 2, (1, 1, 2), (1, 0, False), (0, 0, [1]))
+)
+# ("0", "1", "2") is a tuple of as many items.
+NO_LAYINGS = [row for row in NO_LAYINGS if row[0] != ("0", "1", "2")] + at("BadLaying", 0, ("0", "1", "2"))
+
+WRONG = {
+    "web": (
+        at("BadWeb", None, *ODD, 3, (), (3,), (3, (), ()), [3, ()], (3, []), (3, {}), (3, None), (3, "01"), (3, 0))
+        + at("BadWeb", None, (0, ()), (10, ()), (-3, ()), (True, ()), (False, ()), ("3", ()), (None, ()), ((3,), ()))
+        + at("BadWeb", None, (0, None), (3, [(0, 1)]), ((), 3), (2 ** 70, ()))
+        + at("BadWeb", 0, (3, ((1, 0),)), (3, ((0, 0),)), (3, ((0, 3),)), (3, ((-1, 0),)), (3, ([0, 1],)), (3, (None,)))
+        + at("BadWeb", 0, (3, ((0, True),)), (3, ((False, 1),)), (3, ((0, 1, 2),)), (3, ((0,),)), (3, ((),)), (3, ("01",)))
+        + at("BadWeb", 0, (3, (("0", "1"),)), (3, ({0: 1},)), (3, (0, 1)), (1, ((0, 1),)), (3, ((0, None), (0, 0))))
+        + at("BadWeb", 0, (9, ((0, 9),)), (9, ((3, 2), (0, 1), (0, 1))))
+        + at("BadWeb", 1, (3, ((0, 1), (0, 1))), (3, ((0, 2), (0, 1))), (3, ((1, 2), (0, 1))), (3, ((0, 1), (1, 3))))
+        + at("BadWeb", 1, (3, ((0, 1), 7)), (3, ((0, 1), (2, 1), (0, 1))), (3, ((0, 1), (1, True))))
+        + at("BadWeb", 2, (3, ((0, 1), (1, 2), (0, 2))), (3, ((0, 1), (0, 2), (0, 2))), (3, ((0, 1), (0, 2), [1, 2])))
+    ),
+    "laying": NO_LAYINGS,
+    "full": (
+        NO_LAYINGS
+        + at("BadLaying", 0, (None, 1, 1), (None, None, None), (None, 5, 1))
+        + at("BadLaying", 1, (1, None, 1), (1, None, 5)) + at("BadLaying", 2, (1, 1, None))
+    ),
+    "place": plain("BadPlace", *ODD, 3, (), (0,), "0", [0]),
+    "places": plain("BadPlace", *ODD, 0, (3,), (0, -1), (True,), (0, False), (0, None), ("0",), [0], ((0,),), "0", {0: 0}),
+    "order": (
+        plain("BadOrder", *ODD, 0, (), (0, 1), (0, 1, 1), (0, 1, 3), (1, 2, 3), (0, 1, 2, 2), (0, 1, 2, 3))
+        + plain("BadOrder", (0, True, 2), (False, 1, 2), (-1, 0, 1), (0, 1, None), (0, 1, (2,)), [2, 1, 0], "012")
+    ),
+    "number": plain("BadIndex", *ODD, 2, (), (0,), "0", [0]),
+    "text": plain("NotText", *[value for value in ODD if not isinstance(value, str)], 0, (), ("H",), ["H"]),
+}
+RIGHT = {
+    "web": WEB, "laying": (1, 1, 1), "full": (1, 1, 1), "place": 0, "places": (0, 2), "order": (0, 2, 1), "number": 0,
+    "text": "HTH: 0-1 1-2",
+}
+CALLS = (
+    (webs.neighbours, "web place"),
+    (webs.parts, "web"),
+    (webs.is_forest, "web"),
+    (webs.is_tree, "web"),
+    (webs.without, "web place"),
+    (webs.heads, "web laying"),
+    (webs.taken, "web laying place"),
+    (webs.taken_all, "web laying places"),
+    (layingtext.write_laying, "web laying"),
+    (layingtext.read_laying, "text"),
+    (orders.laying_of, "web order"),
+    (orders.clears, "web full order"),
+    (orders.order_count, "web full"),
+    (orders.can_clear, "web full"),
+    (orders.all_orders, "web full"),
+    (orders.order_number, "web full order"),
+    (orders.order_at, "web full number"),
+    (orders.next_order, "web full order"),
+    (ways.way_of, "web order"),
+    (ways.way_count, "web"),
+    (ways.ways_for, "web full"),
+    (ways.laying_count, "web"),
+    (ways.least_laying, "web"),
+    (ways.is_even, "web full"),
+)
+
+
+class WrongArguments(ExactCase):
+    def test_right_ones_raise_nothing(self):
+        for function, told in CALLS:
+            arguments = [RIGHT[kind] for kind in told.split()]
+            before = repr(arguments)
+            first = function(*arguments)
+            self.same(function(*arguments), first)
+            self.assertEqual(repr(arguments), before)
+
+    def test_each_wrong_one(self):
+        for function, told in CALLS:
+            kinds = told.split()
+            for at_fault, kind in enumerate(kinds):
+                for value, error, fields in WRONG[kind]:
+                    arguments = [RIGHT[kind] for kind in kinds]
+                    arguments[at_fault] = value
+                    self.fails(error, fields, function, *arguments)
+
+    def test_the_leftmost_of_several(self):
+        for function, told in CALLS:
+            kinds = told.split()
+            for size in range(2, len(kinds) + 1):
+                for wrong in combinations(range(len(kinds)), size):
+                    self.several(function, kinds, wrong)
+
+    def several(self, function, kinds, wrong):
+        leftmost = kinds[wrong[0]]
+        for value, error, fields in WRONG[leftmost]:
+            for turn in range(6):
+                arguments = [RIGHT[kind] for kind in kinds]
+                for k in wrong:
+                    arguments[k] = WRONG[kinds[k]][(5 * turn + k) % len(WRONG[kinds[k]])][0]
+                arguments[wrong[0]] = value
+                self.fails(error, fields, function, *arguments)
+
+    def test_too_many_comes_behind_all_others(self):
+        loose = (9, ())
+        self.fails(errors.TooMany, {"most": 2000}, orders.all_orders, loose, (1,) * 9)
+        self.fails(errors.BadLaying, {"index": 8}, orders.all_orders, loose, (1,) * 8 + (True,))
+
+
+if __name__ == "__main__":
+    unittest.main()

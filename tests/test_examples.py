@@ -1,0 +1,67 @@
+"""The examples of the interface, word for word."""
+
+import unittest
+
+from cointakes.errors import CoinError
+
+EXAMPLES = '''
+>>> from cointakes.webs import heads, is_forest, neighbours, parts, taken, taken_all, without
+>>> web, up = (3, ((0, 1), (1, 2))), (1, 1, 1)
+>>> [neighbours(web, 1), parts((3, ((0, 2),))), is_forest(web), without(web, 0), heads(web, (1, None, 0)), taken(web, (0, 1, 0), 1), taken_all(web, up, (1, 0))]
+[(0, 2), ((0, 2), (1,)), True, (2, ((0, 1),)), (0,), (1, None, 1), None]
+>>> from cointakes.webs import parts
+>>> parts((3, ((0, 2), (0, 1))))
+raises BadWeb(index=1)
+>>> from cointakes.layingtext import read_laying, write_laying
+>>> [write_laying((3, ((0, 1), (1, 2))), (1, None, 0)), read_laying("T H :0-1")]
+['H.T: 0-1 1-2', ((2, ((0, 1),)), (0, 1))]
+>>> from cointakes.layingtext import read_laying
+>>> read_laying("HT: 1-0")
+raises InvalidText(place=6)
+>>> from cointakes.orders import all_orders, clears, laying_of, next_order, order_at, order_count, order_number
+>>> web, up = (3, ((0, 1), (1, 2))), (1, 1, 1)
+>>> [laying_of(web, (1, 0, 2)), clears(web, up, (2, 0, 1)), order_count(web, up), all_orders(web, (0, 1, 0)), order_number(web, (0, 1, 0), (1, 2, 0)), order_at(web, up, 0), next_order(web, up, (0, 2, 1))]
+[(0, 1, 0), True, 2, [(1, 0, 2), (1, 2, 0)], 1, (0, 2, 1), (2, 0, 1)]
+>>> from cointakes.ways import is_even, laying_count, least_laying, way_count, way_of, ways_for
+>>> web, ring = (3, ((0, 1), (1, 2))), (3, ((0, 1), (0, 2), (1, 2)))
+>>> [way_of(web, (1, 0, 2)), way_count(web), laying_count(web), least_laying(web), way_count(ring), laying_count(ring), ways_for(ring, (1, 0, 1)), is_even(ring, (1, 1, 0))]
+[(1, 0), 4, 4, (0, 0, 1), 6, 3, 2, True]
+'''
+
+
+def told(error):
+    """An error as the document tells it."""
+    fields = ", ".join(f"{name}={value!r}" for name, value in vars(error).items())
+    return f"raises {error.__class__.__name__}({fields})"
+
+
+def answer(line, names):
+    """What a line of an example shows, None for one that shows nothing."""
+    try:
+        code = compile(line, "example", "eval")
+    except SyntaxError:
+        exec(line, names)
+        return None
+    try:
+        return repr(eval(code, names))
+    except CoinError as error:
+        return told(error)
+
+
+class Examples(unittest.TestCase):
+    def test_examples(self):
+        names = {}
+        lines = EXAMPLES.strip().splitlines()
+        shown = None
+        for line in lines:
+            if line.startswith(">>> "):
+                self.assertIsNone(shown, line)
+                shown = answer(line.removeprefix(">>> "), names)
+            else:
+                self.assertEqual(shown, line)
+                shown = None
+        self.assertIsNone(shown)
+
+
+if __name__ == "__main__":
+    unittest.main()
