@@ -3,7 +3,7 @@
 import unittest
 from itertools import combinations
 
-from cointakes import errors, layingtext, orders, ways, webs
+from cointakes import errors, forests, lasts, layingtext, orders, states, times, turning, ways, webs
 from exact import ExactCase
 
 WEB = (3, ((0, 1), (1, 2)))
@@ -53,12 +53,26 @@ WRONG = {
         + plain("BadOrder", (0, True, 2), (False, 1, 2), (-1, 0, 1), (0, 1, None), (0, 1, (2,)), [2, 1, 0], "012")
     ),
     "number": plain("BadIndex", *ODD, 2, (), (0,), "0", [0]),
+    "edge": plain("BadEdge", *ODD, 2, (), (0,), (0, 1), "0", [0]),
+    "way": plain("BadWay", *ODD, 0, (), (0,), (0, 1, 0), (0, 2), (2, 0), (-1, 0), (0, True), (False, 1), (0, None), [0, 1], "01"),
+    "state": (
+        plain("BadState", *ODD, 0, (3,), (-1,), (0, 3), (0, 0), (1, 0), (0, 2, 1), (0, 1, 1), (2, 1, 0), (0, 1, 2, 2))
+        + plain("BadState", (True,), (0, True), (False, 1), (None,), ("0",), ((0,),), [0], [], "0")
+    ),
+    "prices": (
+        plain("BadPrices", *ODD, 5, (), (1, 1), (1, 1, 1, 1), (1, 1, 1001), (-1, 1, 1), (1, 2 ** 70, 1), [1, 1, 1])
+        + plain("BadPrices", (1, True, 1), (False, 1, 1), (1, 1, None), ("1", 1, 1), ((1,), 1, 1), "111")
+    ),
     "text": plain("NotText", *[value for value in ODD if not isinstance(value, str)], 0, (), ("H",), ["H"]),
 }
 RIGHT = {
     "web": WEB, "laying": (1, 1, 1), "full": (1, 1, 1), "place": 0, "places": (0, 2), "order": (0, 2, 1), "number": 0,
-    "text": "HTH: 0-1 1-2",
+    "text": "HTH: 0-1 1-2", "edge": 1, "way": (0, 1), "state": (0, 2), "prices": (0, 1000, 7), "value": (0, (1, 1, 1)),
+    "other": 2,
 }
+WRONG["other"] = WRONG["place"]
+# Each value is judged, so that none of them is wrong.
+WRONG["value"] = []
 CALLS = (
     (webs.neighbours, "web place"),
     (webs.parts, "web"),
@@ -84,6 +98,31 @@ CALLS = (
     (ways.laying_count, "web"),
     (ways.least_laying, "web"),
     (ways.is_even, "web full"),
+    (forests.odd_way, "web full"),
+    (forests.first_takes, "web full"),
+    (forests.last_takes, "web full"),
+    (forests.laying_of_way, "web way"),
+    (forests.forest_count, "web full"),
+    (forests.edge_sides, "web full edge"),
+    (states.laying_behind, "web full state"),
+    (states.ready, "web full state"),
+    (states.ways_on, "web full state"),
+    (states.ways_to, "web full state"),
+    (states.safe_takes, "web full state"),
+    (states.next_chances, "web full state"),
+    (lasts.met_count, "web full"),
+    (lasts.last_states, "web full"),
+    (lasts.fewest_left, "web full"),
+    (lasts.most_left, "web full"),
+    (lasts.only_left, "web full"),
+    (lasts.is_sure, "web full"),
+    (times.time_chances, "web full place"),
+    (times.mean_times, "web full"),
+    (times.ahead_chance, "web full place other"),
+    (turning.fewest_turned, "web full"),
+    (turning.cheapest_turn, "web full prices"),
+    (turning.shows_turn, "web full prices value"),
+    (turning.turned_for, "web full order"),
 )
 
 
@@ -118,7 +157,8 @@ class WrongArguments(ExactCase):
             for turn in range(6):
                 arguments = [RIGHT[kind] for kind in kinds]
                 for k in wrong:
-                    arguments[k] = WRONG[kinds[k]][(5 * turn + k) % len(WRONG[kinds[k]])][0]
+                    values = [row[0] for row in WRONG[kinds[k]]] or ODD
+                    arguments[k] = values[(5 * turn + k) % len(values)]
                 arguments[wrong[0]] = value
                 self.fails(error, fields, function, *arguments)
 

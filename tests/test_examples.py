@@ -26,6 +26,26 @@ raises InvalidText(place=6)
 >>> web, ring = (3, ((0, 1), (1, 2))), (3, ((0, 1), (0, 2), (1, 2)))
 >>> [way_of(web, (1, 0, 2)), way_count(web), laying_count(web), least_laying(web), way_count(ring), laying_count(ring), ways_for(ring, (1, 0, 1)), is_even(ring, (1, 1, 0))]
 [(1, 0), 4, 4, (0, 0, 1), 6, 3, 2, True]
+>>> from cointakes.forests import edge_sides, first_takes, forest_count, last_takes, laying_of_way, odd_way
+>>> web, up = (3, ((0, 1), (1, 2))), (1, 1, 1)
+>>> [odd_way(web, up), odd_way(web, (1, 1, 0)), first_takes(web, up), last_takes(web, up), laying_of_way(web, (0, 0)), forest_count(web, up), edge_sides(web, up, 0)]
+[(0, 1), None, (0, 2), (1,), (1, 0, 0), 2, (1, 2)]
+>>> from cointakes.states import laying_behind, next_chances, ready, safe_takes, ways_on, ways_to
+>>> web, up = (3, ((0, 1), (1, 2))), (1, 1, 1)
+>>> [laying_behind(web, up, (0,)), ready(web, up, (0,)), ways_on(web, up, (0,)), ways_to(web, up, (0, 2)), safe_takes(web, up, ()), next_chances(web, up, ())]
+[(None, 0, 1), (2,), 1, 2, (0, 2), ((1, 2), (0, 1), (1, 2))]
+>>> from cointakes.lasts import fewest_left, is_sure, last_states, met_count, most_left, only_left
+>>> web, up = (3, ((0, 1), (1, 2))), (1, 1, 1)
+>>> [met_count(web, up), last_states(web, up), fewest_left(web, up), most_left(web, up), only_left(web, (1, 1, 0)), is_sure(web, (1, 0, 0))]
+[6, ((0, 1, 2), (1,)), (0, (0, 1, 2)), (2, (1,)), (0,), True]
+>>> from cointakes.times import ahead_chance, mean_times, time_chances
+>>> web, up = (3, ((0, 1), (1, 2))), (1, 1, 1)
+>>> [time_chances(web, up, 0), mean_times(web, up), ahead_chance(web, up, 0, 1), mean_times(web, (1, 1, 0))]
+[((1, 2), (1, 2), (0, 1)), ((1, 2), (2, 1), (1, 2)), (1, 1), None]
+>>> from cointakes.turning import cheapest_turn, fewest_turned, shows_turn, turned_for
+>>> web = (3, ((0, 1), (1, 2)))
+>>> [fewest_turned(web, (1, 1, 0)), cheapest_turn(web, (1, 1, 0), (5, 2, 3)), shows_turn(web, (1, 1, 0), (5, 2, 2), (2, (1, 1, 1))), turned_for(web, (1, 1, 0), (1, 0, 2))]
+[1, (2, (1, 0, 0)), True, (0,)]
 '''
 
 

@@ -16,6 +16,11 @@ INTERFACE = {
     "layingtext": "write_laying read_laying",
     "orders": "laying_of clears can_clear order_count all_orders order_number order_at next_order",
     "ways": "way_of way_count ways_for laying_count least_laying is_even",
+    "forests": "odd_way first_takes last_takes laying_of_way forest_count edge_sides",
+    "states": "laying_behind ready ways_on ways_to safe_takes next_chances",
+    "lasts": "met_count last_states fewest_left most_left only_left is_sure",
+    "times": "time_chances mean_times ahead_chance",
+    "turning": "fewest_turned cheapest_turn shows_turn turned_for",
 }
 LIBRARY = {"math": ("gcd", "lcm", "isqrt", "comb", "perm", "factorial")}
 BUILTINS = """len range enumerate zip min max sum abs sorted reversed int str bool list tuple dict set isinstance ord
@@ -39,7 +44,7 @@ def functions(tree):
 
 def bound_in(function):
     """The names that a function assigns, its parameters included."""
-    arguments = {argument.arg for argument in ast.walk(function.args) if isinstance(argument, ast.arg)}
+    arguments = {argument.arg for argument in ast.walk(function) if isinstance(argument, ast.arg)}
     stored = {node.id for node in ast.walk(function) if isinstance(node, ast.Name) and isinstance(node.ctx, ast.Store)}
     return arguments | stored
 
