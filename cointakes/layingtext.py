@@ -6,6 +6,8 @@ from cointakes.errors import InvalidText, NotText
 COINS = {"H": 1, "T": 0, ".": None}
 SIGNS = {1: "H", 0: "T", None: "."}
 DIGITS = "0123456789"
+# Less than every edge: what stands ahead of the first one.
+NO_EDGE = (-1, -1)
 
 
 def write_laying(web, laying):
@@ -53,31 +55,29 @@ def read_edges(text, start, many):
         if text[at] == " ":
             at += 1
             continue
-        edge = read_edge(text, at, many)
-        # Ahead of what is wrong with the second digit: the first digit stands further left.
-        if edges and edge <= edges[-1]:
-            raise InvalidText(at)
-        if edge[1] >= many or edge[1] <= edge[0]:
-            raise InvalidText(at + 2)
+        edges.append(read_edge(text, at, many, edges[-1] if edges else NO_EDGE))
         at += 3
         if text[at:at + 1] not in ("", " "):
             raise InvalidText(at)
-        edges.append(edge)
     if not edges:
         raise InvalidText(len(text))
     return tuple(edges)
 
 
-def read_edge(text, at, many):
-    """The pair of a place and a digit, parted by "-", at an index."""
+def read_edge(text, at, many, last):
+    """The edge of two digits, parted by "-", at an index, behind a last one."""
     low = digit_at(text, at)
-    if low is None or low >= many:
+    # Of all edges with this first digit the greatest one would end in the greatest place.
+    if low is None or low >= many or (low, many - 1) <= last:
         raise InvalidText(at)
     if text[at + 1:at + 2] != "-":
         raise InvalidText(at + 1)
     high = digit_at(text, at + 2)
-    if high is None:
+    if high is None or high >= many or high <= low:
         raise InvalidText(at + 2)
+    # Only now that both digits make an edge it can be one that is not greater than the last one.
+    if (low, high) <= last:
+        raise InvalidText(at)
     return low, high
 
 

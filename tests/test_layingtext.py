@@ -129,10 +129,36 @@ class Reading(ExactCase):
         self.wrong("HTH: 1-2 0-0", 9)
         self.wrong("HTH: 1-2 0-7", 9)
 
-    def test_unfinished_edge_is_compared_with_none(self):
-        self.wrong("HTH: 1-2 0", 10)
-        self.wrong("HTH: 1-2 0-", 11)
-        self.wrong("HTH: 1-2 0-x", 11)
+    def test_first_digit_that_no_greater_edge_has(self):
+        for rest in ("", "-", "x", " -1", "-x", "-0", "-1", "-2", "-7", "1"):
+            self.wrong("HTH: 1-2 0" + rest, 9)
+            self.wrong("HTH: 1-2 1" + rest, 9)
+            self.wrong("HTHH: 0-1 2-3 1" + rest, 14)
+            self.wrong("HTHH: 0-3 0" + rest, 10)
+        self.wrong("HTHHTH: 2-4 1-5", 12)
+
+    def test_unfinished_edge_whose_first_digit_can_stand(self):
+        self.wrong("HTH: 0-1 0", 10)
+        self.wrong("HTH: 0-1 0-", 11)
+        self.wrong("HTH: 0-1 0x", 10)
+        self.wrong("HTH: 0-1 0-x", 11)
+        self.wrong("HTH: 0-1 0 -2", 10)
+        self.wrong("HTH: 1-2 2", 10)
+        self.wrong("HTH: 1-2 2-", 11)
+
+    def test_second_digit_behind_another_edge(self):
+        self.wrong("TTT.T.H: 0-5 1-6 2-4 2-05 3-5 5-6", 23)
+        self.wrong("HTHHTH: 2-4 2-0", 14)
+        self.wrong("HTHHTH: 2-4 2-2", 14)
+        self.wrong("HTHHTH: 2-4 2-6", 14)
+        self.wrong("HTHHTH: 2-4 2-9", 14)
+        self.wrong("HTH: 1-2 2-0", 11)
+        self.wrong("HTH: 1-2 2-2", 11)
+        self.wrong("HTHHTH: 2-4 2-3", 12)
+        self.wrong("HTHHTH: 2-4 2-3x", 12)
+        self.wrong("HTHHTH: 2-4 2-4", 12)
+        self.wrong("HTHHTH: 2-4 2-5x", 15)
+        self.same(read_laying("HTHHTH: 2-4 2-5"), ((6, ((2, 4), (2, 5))), (1, 0, 1, 1, 0, 1)))
 
     def test_each_single_sign(self):
         for code in range(256):
