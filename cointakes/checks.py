@@ -1,14 +1,24 @@
 """Whether arguments are what the functions ask for, and the errors if they are not."""
 
-from cointakes.errors import BadLaying, BadOrder, BadPlace, BadPrices, BadState, BadWay, BadWeb
+from cointakes.errors import BadCount, BadFalls, BadFlag, BadLaying, BadOrder, BadPlace, BadPrices, BadRing, BadRow
+from cointakes.errors import BadState, BadWay, BadWeb, BadWeights
 
 MOST_PLACES = 9
 MOST_PRICE = 1000
+MOST_WEIGHT = 100
+MOST_IN_ROW = 40
+LEAST_IN_RING = 3
+MOST_IN_RING = 20
+
+
+def is_integer(value):
+    """Whether a value is an integer; True and False are none."""
+    return isinstance(value, int) and not isinstance(value, bool)
 
 
 def is_between(value, low, high):
     """Whether a value is an integer from low to high."""
-    return isinstance(value, int) and not isinstance(value, bool) and low <= value <= high
+    return is_integer(value) and low <= value <= high
 
 
 def is_tuple_of(value, many):
@@ -19,6 +29,23 @@ def is_tuple_of(value, many):
 def is_bits(value, many):
     """Whether a value is a tuple of so many integers 0 or 1."""
     return is_tuple_of(value, many) and all([is_between(item, 0, 1) for item in value])
+
+
+def is_coins(value, low, high):
+    """Whether a value is a tuple of low to high integers 0 or 1."""
+    return isinstance(value, tuple) and low <= len(value) <= high and is_bits(value, len(value))
+
+
+def is_rising(value, many):
+    """Whether a value is an ascending tuple of unlike integers from 0 to many - 1."""
+    if not isinstance(value, tuple) or not all([is_between(item, 0, many - 1) for item in value]):
+        return False
+    return are_rising(value)
+
+
+def are_rising(items):
+    """Whether each of some items is greater than the one before it."""
+    return all([items[index - 1] < items[index] for index in range(1, len(items))])
 
 
 def is_edge(value, many):
@@ -78,19 +105,29 @@ def check_places(web, places):
         raise BadPlace("not a tuple of places of the web")
 
 
+def is_order(web, value):
+    """Whether a value is a tuple of all places of a web, each once."""
+    return is_places(web, value) and sorted(value) == list(range(web[0]))
+
+
 def check_order(web, order):
     """Raise BadOrder for a value that does not hold each place of a web once."""
-    if not is_places(web, order) or sorted(order) != list(range(web[0])):
+    if not is_order(web, order):
         raise BadOrder("not an order of all places of the web")
 
 
 def check_state(web, state):
     """Raise BadState for a value that is not an ascending tuple of unlike places."""
-    if not is_places(web, state):
-        raise BadState("not a tuple of places of the web")
-    for index in range(1, len(state)):
-        if state[index - 1] >= state[index]:
-            raise BadState("not ascending")
+    if not is_rising(state, web[0]):
+        raise BadState("not an ascending tuple of places of the web")
+
+
+def is_by_state(web, value):
+    """Whether a value is an ascending tuple of pairs, each of a state and anything else, each state once."""
+    if not isinstance(value, tuple) or not all([is_tuple_of(item, 2) for item in value]):
+        return False
+    states = [item[0] for item in value]
+    return all([is_rising(state, web[0]) for state in states]) and are_rising(states)
 
 
 def check_way(web, way):
@@ -103,3 +140,39 @@ def check_prices(web, prices):
     """Raise BadPrices for a value that does not hold a price for each place."""
     if not is_tuple_of(prices, web[0]) or not all([is_between(price, 0, MOST_PRICE) for price in prices]):
         raise BadPrices("not a tuple with a price for each place")
+
+
+def check_weights(web, weights):
+    """Raise BadWeights for a value that does not hold a weight for each place."""
+    if not is_tuple_of(weights, web[0]) or not all([is_between(weight, 1, MOST_WEIGHT) for weight in weights]):
+        raise BadWeights("not a tuple with a weight for each place")
+
+
+def check_flag(value):
+    """Raise BadFlag for a value that is neither True nor False."""
+    if not isinstance(value, bool):
+        raise BadFlag("neither True nor False")
+
+
+def check_row(row):
+    """Raise BadRow for a value that is no row."""
+    if not is_coins(row, 1, MOST_IN_ROW):
+        raise BadRow(f"not a tuple of 1 to {MOST_IN_ROW} integers 0 or 1")
+
+
+def check_ring(ring):
+    """Raise BadRing for a value that is no ring."""
+    if not is_coins(ring, LEAST_IN_RING, MOST_IN_RING):
+        raise BadRing(f"not a tuple of {LEAST_IN_RING} to {MOST_IN_RING} integers 0 or 1")
+
+
+def check_count(many, most):
+    """Raise BadCount for a value that is not an integer from 1 to most."""
+    if not is_between(many, 1, most):
+        raise BadCount(f"not an integer from 1 to {most}")
+
+
+def check_falls(many, falls):
+    """Raise BadFalls for a value that is not an ascending tuple of places of so many, the last one left out."""
+    if not is_rising(falls, many - 1):
+        raise BadFalls("not an ascending tuple of places ahead of the last one")

@@ -24,6 +24,11 @@ def head_mask(laying):
     return mask_of([place for place, coin in enumerate(laying) if coin == 1])
 
 
+def lying_mask(laying):
+    """The set of the places with a coin."""
+    return mask_of([place for place, coin in enumerate(laying) if coin is not None])
+
+
 def laying_with(heads, many):
     """The full laying of so many places with just these heads up."""
     return tuple([heads >> place & 1 for place in range(many)])

@@ -1,15 +1,16 @@
 """Tables over all states of a web; a state is the set of its taken places, as in masks.py."""
 
-from cointakes.masks import head_mask, lowest_in, near_masks, places_in
+from cointakes.masks import head_mask, lowest_in, lying_mask, near_masks, places_in
 
 
 def ready_table(web, laying):
-    """For each state the set of the places with heads up."""
+    """For each state the set of the places with heads up; what is empty at first stays so in all states."""
     near = near_masks(web)
     turned = [head_mask(laying)]
     for state in range(1, 1 << web[0]):
         turned.append(turned[state & (state - 1)] ^ near[lowest_in(state)])
-    return [heads & ~state for state, heads in enumerate(turned)]
+    lying = lying_mask(laying)
+    return [heads & lying & ~state for state, heads in enumerate(turned)]
 
 
 def on_table(ready):

@@ -2,15 +2,24 @@
 
 from itertools import combinations, permutations, product
 
+
+def line(many):
+    return (many, tuple((k, k + 1) for k in range(many - 1)))
+
+
+def ring_of(many):
+    return (many, tuple(sorted(tuple(sorted((k, (k + 1) % many))) for k in range(many))))
+
+
 PATH = (3, ((0, 1), (1, 2)))
 TRIANGLE = (3, ((0, 1), (0, 2), (1, 2)))
 SQUARE = (4, ((0, 1), (0, 3), (1, 2), (2, 3)))
 SINGLE = (1, ())
-LONG_PATH = (9, tuple((k, k + 1) for k in range(8)))
+LONG_PATH = line(9)
 STAR = (9, tuple((k, 8) for k in range(8)))
 LOOSE = (9, ())
 COMPLETE = (9, tuple(combinations(range(9), 2)))
-RING_OF_NINE = (9, tuple(sorted(tuple(sorted((k, (k + 1) % 9))) for k in range(9))))
+RING_OF_NINE = ring_of(9)
 SEVERAL = (6, ((0, 3), (1, 4), (2, 4)))
 SPIDER = (6, ((0, 2), (1, 2), (2, 3), (3, 4), (3, 5)))
 TADPOLE = (5, ((0, 1), (0, 2), (1, 2), (2, 3)))

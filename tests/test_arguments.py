@@ -3,7 +3,8 @@
 import unittest
 from itertools import combinations
 
-from cointakes import errors, forests, lasts, layingtext, orders, states, times, turning, ways, webs
+from cointakes import errors, forests, hands, keepers, lasts, layingtext, orders, rings, rows, states, takers, times
+from cointakes import turning, ways, webs
 from exact import ExactCase
 
 WEB = (3, ((0, 1), (1, 2)))
@@ -63,12 +64,33 @@ WRONG = {
         plain("BadPrices", *ODD, 5, (), (1, 1), (1, 1, 1, 1), (1, 1, 1001), (-1, 1, 1), (1, 2 ** 70, 1), [1, 1, 1])
         + plain("BadPrices", (1, True, 1), (False, 1, 1), (1, 1, None), ("1", 1, 1), ((1,), 1, 1), "111")
     ),
+    "weights": (
+        plain("BadWeights", *ODD, 5, (), (1, 1), (1, 1, 1, 1), (1, 1, 101), (0, 1, 1), (1, -1, 1), (1, 2 ** 70, 1), [1, 1, 1])
+        + plain("BadWeights", (1, True, 1), (False, 1, 1), (1, 1, None), ("1", 1, 1), ((1,), 1, 1), "111")
+    ),
+    "flag": plain("BadFlag", *[value for value in ODD if not isinstance(value, bool)], 0, 1, (), (True,), "True", [False]),
+    "row": (
+        plain("BadRow", *ODD, 0, 1, (), (2,), (-1,), (0, 1, 2), (True,), (1, False), (1, None), ("1",), (1, (1,)), (1, []))
+        + plain("BadRow", [1], [1, 1, 1], "111", {1: 1}, (1,) * 41, (0,) * 100)
+    ),
+    "ring": (
+        plain("BadRing", *ODD, 0, 3, (), (1,), (1, 1), (0, 0), (1, 1, 2), (-1, 1, 1), (True, 1, 1), (1, 1, False), (1, 1, None))
+        + plain("BadRing", ("1", "1", "0"), (1, 1, (0,)), (1, [], 0), [1, 1, 0], "110", (1,) * 21, (0,) * 50)
+    ),
+    "head": plain("BadPlace", *ODD, 2, 3, 20, (), (0,), "0", [0]),
+    "to_forty": plain("BadCount", *[value for value in ODD if value != 10], 0, -40, 41, (), (3,), [3], "3"),
+    "to_nine": plain("BadCount", *ODD, 0, -9, (), (3,), [3], "3"),
+    "falls": (
+        plain("BadFalls", *ODD, 0, 1, (2,), (-1,), (0, 2), (0, 0), (1, 1), (1, 0), (0, 1, 1), (0, 1, 2), (True,), (0, True))
+        + plain("BadFalls", (False, 1), (None,), ("0",), ((0,),), (0, []), [0], [], "0")
+    ),
     "text": plain("NotText", *[value for value in ODD if not isinstance(value, str)], 0, (), ("H",), ["H"]),
 }
 RIGHT = {
     "web": WEB, "laying": (1, 1, 1), "full": (1, 1, 1), "place": 0, "places": (0, 2), "order": (0, 2, 1), "number": 0,
     "text": "HTH: 0-1 1-2", "edge": 1, "way": (0, 1), "state": (0, 2), "prices": (0, 1000, 7), "value": (0, (1, 1, 1)),
-    "other": 2,
+    "other": 2, "weights": (1, 100, 7), "flag": True, "row": (1, 1, 1), "ring": (1, 1, 0), "head": 1, "to_forty": 3,
+    "to_nine": 3, "falls": (1,),
 }
 WRONG["other"] = WRONG["place"]
 # Each value is judged, so that none of them is wrong.
@@ -123,6 +145,31 @@ CALLS = (
     (turning.cheapest_turn, "web full prices"),
     (turning.shows_turn, "web full prices value"),
     (turning.turned_for, "web full order"),
+    (rows.row_falls, "row"),
+    (rows.row_of_falls, "to_forty falls"),
+    (rows.row_count, "row"),
+    (rows.row_first, "row"),
+    (rows.row_number, "row order"),
+    (rows.row_at, "row number"),
+    (rows.greatest_row, "to_forty"),
+    (rows.rows_by_count, "to_nine"),
+    (rings.ring_count, "ring"),
+    (rings.ring_first, "ring"),
+    (rings.ring_opened, "ring head"),
+    (takers.clear_chance, "web full"),
+    (takers.left_chances, "web full"),
+    (takers.mean_left, "web full"),
+    (takers.last_chances, "web full"),
+    (takers.take_chance, "web full order"),
+    (takers.place_chance, "web full place"),
+    (takers.weighted_clear, "web full weights"),
+    (hands.worth, "web laying"),
+    (hands.last_hand, "web laying"),
+    (hands.winning_takes, "web laying"),
+    (keepers.keeper_wins, "web full flag"),
+    (keepers.left_value, "web full flag"),
+    (keepers.keeper_plan, "web full flag"),
+    (keepers.shows_plan, "web full flag value"),
 )
 
 

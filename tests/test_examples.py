@@ -46,6 +46,24 @@ raises InvalidText(place=6)
 >>> web = (3, ((0, 1), (1, 2)))
 >>> [fewest_turned(web, (1, 1, 0)), cheapest_turn(web, (1, 1, 0), (5, 2, 3)), shows_turn(web, (1, 1, 0), (5, 2, 2), (2, (1, 1, 1))), turned_for(web, (1, 1, 0), (1, 0, 2))]
 [1, (2, (1, 0, 0)), True, (0,)]
+>>> from cointakes.rows import greatest_row, row_at, row_count, row_falls, row_first, row_number, row_of_falls, rows_by_count
+>>> [row_falls((1, 1, 1)), row_of_falls(3, (1,)), row_count((1, 1, 0, 1)), row_first((1, 1, 1)), row_number((1, 1, 1), (2, 0, 1)), row_at((0, 1, 0), 1), greatest_row(4), rows_by_count(3)]
+[(1,), (1, 1, 1), 3, (0, 2), 1, (1, 2, 0), (5, (0, 1, 1, 1)), ((0, 4), (1, 2), (2, 2))]
+>>> from cointakes.rings import ring_count, ring_first, ring_opened
+>>> [ring_count((1, 1, 0)), ring_count((1, 1, 1, 1)), ring_first((1, 1, 0)), ring_opened((1, 1, 0), 0)]
+[2, 8, (0, 1), (0, 1)]
+>>> from cointakes.takers import clear_chance, left_chances, mean_left, place_chance, take_chance, weighted_clear
+>>> web, up = (3, ((0, 1), (1, 2))), (1, 1, 1)
+>>> [clear_chance(web, up), left_chances(web, up), mean_left(web, up), place_chance(web, up, 1), take_chance(web, up, (0, 2, 1)), weighted_clear(web, up, (1, 2, 1))]
+[(2, 3), ((2, 3), (0, 1), (1, 3), (0, 1)), (2, 3), (1, 1), (1, 3), (1, 2)]
+>>> from cointakes.hands import last_hand, winning_takes, worth
+>>> web, up = (3, ((0, 1), (1, 2))), (1, 1, 1)
+>>> [worth(web, up), winning_takes(web, up), worth(web, (1, 1, 0)), last_hand(web, (1, None, 1))]
+[1, (0, 1, 2), 2, False]
+>>> from cointakes.keepers import keeper_plan, keeper_wins, left_value, shows_plan
+>>> web, up = (3, ((0, 1), (1, 2))), (1, 1, 1)
+>>> [keeper_wins(web, up, True), left_value(web, up, False), keeper_plan(web, up, False), shows_plan(web, up, True, (((), 0), ((0, 2), 1)))]
+[True, 2, None, True]
 '''
 
 

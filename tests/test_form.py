@@ -21,8 +21,16 @@ INTERFACE = {
     "lasts": "met_count last_states fewest_left most_left only_left is_sure",
     "times": "time_chances mean_times ahead_chance",
     "turning": "fewest_turned cheapest_turn shows_turn turned_for",
+    "rows": "row_falls row_of_falls row_count row_first row_number row_at greatest_row rows_by_count",
+    "rings": "ring_count ring_first ring_opened",
+    "takers": "clear_chance left_chances mean_left last_chances take_chance place_chance weighted_clear",
+    "hands": "worth last_hand winning_takes",
+    "keepers": "keeper_wins left_value keeper_plan shows_plan",
 }
-LIBRARY = {"math": ("gcd", "lcm", "isqrt", "comb", "perm", "factorial")}
+LIBRARY = {
+    "math": ("gcd", "lcm", "isqrt", "comb", "perm", "factorial"),
+    "itertools": ("product", "combinations", "permutations", "chain", "accumulate", "pairwise", "islice", "zip_longest"),
+}
 BUILTINS = """len range enumerate zip min max sum abs sorted reversed int str bool list tuple dict set isinstance ord
     repr any all divmod map iter next super ValueError KeyError IndexError""".split()
 BARRED = (ast.Import, ast.AsyncFunctionDef, ast.AsyncFor, ast.AsyncWith, ast.Await, ast.TryStar, ast.Div, ast.MatMult)
