@@ -1,10 +1,11 @@
 """Whether arguments are what the functions ask for, and the errors if they are not."""
 
 from cointakes.errors import BadCount, BadFalls, BadFlag, BadLaying, BadOrder, BadPlace, BadPrices, BadRing, BadRow
-from cointakes.errors import BadState, BadWay, BadWeb, BadWeights
+from cointakes.errors import BadState, BadTold, BadWay, BadWeb, BadWeights
 
 MOST_PLACES = 9
 MOST_PRICE = 1000
+MOST_TOLD = 12
 MOST_WEIGHT = 100
 MOST_IN_ROW = 40
 LEAST_IN_RING = 3
@@ -105,6 +106,12 @@ def check_places(web, places):
         raise BadPlace("not a tuple of places of the web")
 
 
+def check_firsts(web, firsts):
+    """Raise BadPlace for a value that is not a tuple of unlike places of a web."""
+    if not is_places(web, firsts) or len(set(firsts)) < len(firsts):
+        raise BadPlace("not a tuple of unlike places of the web")
+
+
 def is_order(web, value):
     """Whether a value is a tuple of all places of a web, each once."""
     return is_places(web, value) and sorted(value) == list(range(web[0]))
@@ -114,6 +121,14 @@ def check_order(web, order):
     """Raise BadOrder for a value that does not hold each place of a web once."""
     if not is_order(web, order):
         raise BadOrder("not an order of all places of the web")
+
+
+def check_told(web, told):
+    """Raise BadTold for a value that is not an ascending tuple of 1 to 12 unlike orders."""
+    if not isinstance(told, tuple) or not 1 <= len(told) <= MOST_TOLD:
+        raise BadTold(f"not a tuple of 1 to {MOST_TOLD} orders")
+    if not all([is_order(web, order) for order in told]) or not are_rising(told):
+        raise BadTold("not ascending orders of the web")
 
 
 def check_state(web, state):

@@ -19,6 +19,16 @@ def lowest_in(mask):
     return (mask & -mask).bit_length() - 1
 
 
+def groups_in(mask):
+    """The list of the sets of some places of a set, the empty one left out."""
+    groups = []
+    group = mask
+    while group:
+        groups.append(group)
+        group = (group - 1) & mask
+    return groups
+
+
 def head_mask(laying):
     """The set of the places with heads up."""
     return mask_of([place for place, coin in enumerate(laying) if coin == 1])

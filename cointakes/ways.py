@@ -1,7 +1,7 @@
 """Ways to direct a web: point 7."""
 
 from cointakes.checks import check_full, check_order, check_web
-from cointakes.masks import laying_with, lowest_in, near_masks
+from cointakes.masks import groups_in, laying_with, lowest_in, near_masks
 from cointakes.tables import clear_masks, ready_table
 
 
@@ -32,10 +32,7 @@ def count_ways(web, firsts):
     counts = [0] * len(firsts)
     counts[-1] = 1
     for state in reversed(range(len(firsts) - 1)):
-        group = firsts[state]
-        while group:
-            counts[state] += signs[group] * counts[state | group]
-            group = (group - 1) & firsts[state]
+        counts[state] = sum([signs[group] * counts[state | group] for group in groups_in(firsts[state])])
     return counts[0]
 
 

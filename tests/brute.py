@@ -23,6 +23,15 @@ RING_OF_NINE = ring_of(9)
 SEVERAL = (6, ((0, 3), (1, 4), (2, 4)))
 SPIDER = (6, ((0, 2), (1, 2), (2, 3), (3, 4), (3, 5)))
 TADPOLE = (5, ((0, 1), (0, 2), (1, 2), (2, 3)))
+# Pairs of a web and a laying that so many orders clear.
+OF_2000 = (
+    (9, ((0, 7), (1, 2), (1, 6), (1, 8), (2, 5), (3, 4), (3, 5), (3, 6), (3, 8), (4, 7), (5, 8), (6, 7))),
+    (0, 0, 1, 1, 1, 0, 0, 0, 0),
+)
+OF_2001 = (
+    (9, ((0, 2), (0, 3), (0, 5), (0, 6), (0, 8), (1, 3), (1, 5), (1, 6), (2, 3), (2, 4), (4, 6), (4, 7), (7, 8))),
+    (0, 1, 1, 0, 0, 0, 0, 1, 1),
+)
 
 
 def all_webs(many):
@@ -113,3 +122,16 @@ def parts(web):
             groups.remove(other)
             one |= other
     return tuple(sorted(tuple(sorted(group)) for group in groups))
+
+
+def states(web):
+    return sorted(state for size in range(web[0] + 1) for state in combinations(range(web[0]), size))
+
+
+def laying_in(web, laying, state):
+    """The laying of a state, coin by coin."""
+    coins = []
+    for place, coin in enumerate(laying):
+        turns = sum(other in state for other in near(web, place))
+        coins.append(None if place in state else coin if turns % 2 == 0 else 1 - coin)
+    return tuple(coins)

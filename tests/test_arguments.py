@@ -3,8 +3,8 @@
 import unittest
 from itertools import combinations
 
-from cointakes import errors, forests, hands, keepers, lasts, layingtext, orders, rings, rows, states, takers, times
-from cointakes import turning, ways, webs
+from cointakes import costs, errors, forests, hands, keepers, lasts, layingtext, orders, returning, rings, rounds, rows
+from cointakes import states, swapping, takers, telling, times, turning, ways, webs
 from exact import ExactCase
 
 WEB = (3, ((0, 1), (1, 2)))
@@ -84,15 +84,28 @@ WRONG = {
         plain("BadFalls", *ODD, 0, 1, (2,), (-1,), (0, 2), (0, 0), (1, 1), (1, 0), (0, 1, 1), (0, 1, 2), (True,), (0, True))
         + plain("BadFalls", (False, 1), (None,), ("0",), ((0,),), (0, []), [0], [], "0")
     ),
+    "told": (
+        plain("BadTold", *ODD, 0, (), (0, 1, 2), ((0, 1, 2), (0, 1, 2)), ((0, 2, 1), (0, 1, 2)), ((0, 1, 2), (0, 1)))
+        + plain("BadTold", ((0, 1),), ((0, 1, 3),), ((0, 1, 1),), ((0, True, 2),), ((False, 1, 2),), ((0, 1, None),))
+        + plain("BadTold", ([0, 1, 2],), [(0, 1, 2)], (((0,), 1, 2),), ("012",), (None,), ((0, 1, 2), None), {(0, 1, 2): 0})
+        + plain("BadTold", ((0, 1, 2), (0, 2, 1), (1, 0, 2), (1, 2, 0), (2, 0, 1), (2, 1, 0), (2, 1, 0)), ({}, []))
+    ),
+    "firsts": (
+        plain("BadPlace", *ODD, 0, (3,), (-1,), (0, 3), (0, 0), (0, 1, 0), (0, 1, 2, 2), (True,), (0, False), (0, None))
+        + plain("BadPlace", ("0",), ((0,),), ([],), ({}, 0), [0], [], {}, "0", {0: 0})
+    ),
     "text": plain("NotText", *[value for value in ODD if not isinstance(value, str)], 0, (), ("H",), ["H"]),
 }
 RIGHT = {
     "web": WEB, "laying": (1, 1, 1), "full": (1, 1, 1), "place": 0, "places": (0, 2), "order": (0, 2, 1), "number": 0,
     "text": "HTH: 0-1 1-2", "edge": 1, "way": (0, 1), "state": (0, 2), "prices": (0, 1000, 7), "value": (0, (1, 1, 1)),
     "other": 2, "weights": (1, 100, 7), "flag": True, "row": (1, 1, 1), "ring": (1, 1, 0), "head": 1, "to_forty": 3,
-    "to_nine": 3, "falls": (1,),
+    "to_nine": 3, "falls": (1,), "told": ((0, 2, 1), (1, 0, 2)), "firsts": (2, 0), "next_state": (1,),
+    "next_order": (2, 0, 1),
 }
 WRONG["other"] = WRONG["place"]
+WRONG["next_state"] = WRONG["state"]
+WRONG["next_order"] = WRONG["order"]
 # Each value is judged, so that none of them is wrong.
 WRONG["value"] = []
 CALLS = (
@@ -170,6 +183,28 @@ CALLS = (
     (keepers.left_value, "web full flag"),
     (keepers.keeper_plan, "web full flag"),
     (keepers.shows_plan, "web full flag value"),
+    (costs.least_cost, "web full prices"),
+    (costs.mean_cost, "web full prices"),
+    (costs.cost_paper, "web full prices"),
+    (costs.shows_cost_paper, "web full prices value"),
+    (swapping.beside, "web order"),
+    (swapping.swaps, "web order next_order"),
+    (swapping.order_parts, "web full"),
+    (swapping.same_laying, "web order next_order"),
+    (swapping.turned_pairs, "web order next_order"),
+    (telling.told_laying, "web told"),
+    (telling.third_order, "web told"),
+    (telling.shows_third, "web told value"),
+    (telling.told_firsts, "web full firsts"),
+    (returning.steps_between, "web full state next_state"),
+    (returning.way_between, "web full state next_state"),
+    (returning.joined_count, "web full state"),
+    (returning.farthest, "web full state"),
+    (returning.state_parts, "web full"),
+    (rounds.least_rounds, "web full"),
+    (rounds.rounds_plan, "web full"),
+    (rounds.shows_rounds, "web full value"),
+    (rounds.forest_rounds, "web full"),
 )
 
 

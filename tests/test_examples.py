@@ -64,6 +64,27 @@ raises InvalidText(place=6)
 >>> web, up = (3, ((0, 1), (1, 2))), (1, 1, 1)
 >>> [keeper_wins(web, up, True), left_value(web, up, False), keeper_plan(web, up, False), shows_plan(web, up, True, (((), 0), ((0, 2), 1)))]
 [True, 2, None, True]
+>>> from cointakes.costs import least_cost, mean_cost, shows_cost_paper
+>>> web, up = (3, ((0, 1), (1, 2))), (1, 1, 1)
+>>> paper = (((), 13), ((0,), 8), ((0, 1, 2), 0), ((0, 2), 6), ((2,), 16))
+>>> [least_cost(web, up, (5, 2, 1)), mean_cost(web, up, (5, 2, 1)), shows_cost_paper(web, up, (5, 2, 1), paper)]
+[(13, (0, 2, 1)), (15, 1), True]
+>>> from cointakes.swapping import beside, order_parts, same_laying, swaps, turned_pairs
+>>> web, up = (3, ((0, 1), (1, 2))), (1, 1, 1)
+>>> [beside(web, (0, 2, 1)), swaps(web, (0, 2, 1), (2, 0, 1)), swaps(web, (0, 1, 2), (2, 1, 0)), order_parts(web, up), turned_pairs(web, (0, 1, 2), (2, 1, 0))]
+[((2, 0, 1),), 1, None, (2,), 3]
+>>> from cointakes.telling import shows_third, third_order, told_firsts, told_laying
+>>> web, up = (3, ((0, 1), (1, 2))), (1, 1, 1)
+>>> [told_laying(web, ((0, 2, 1), (2, 0, 1))), third_order(web, ((0, 2, 1),)), shows_third(web, ((0, 2, 1), (2, 0, 1)), None), told_firsts(web, up, (2,))]
+[(1, 1, 1), (2, 0, 1), True, 1]
+>>> from cointakes.returning import farthest, joined_count, state_parts, steps_between, way_between
+>>> web, up = (3, ((0, 1), (1, 2))), (1, 1, 1)
+>>> [steps_between(web, up, (), (0, 1, 2)), way_between(web, up, (0,), (2,)), joined_count(web, up, ()), farthest(web, up, ()), state_parts(web, up)]
+[3, (0, 2), 6, (3, ((0, 1, 2),)), (1, 1, 6)]
+>>> from cointakes.rounds import forest_rounds, least_rounds, shows_rounds
+>>> web, up = (3, ((0, 1), (1, 2))), (1, 1, 1)
+>>> [least_rounds(web, up), shows_rounds(web, up, ((0, 2), (1,))), forest_rounds(web, (1, 0, 0)), least_rounds(web, (1, 1, 0))]
+[2, True, 3, None]
 '''
 
 

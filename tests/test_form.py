@@ -26,6 +26,11 @@ INTERFACE = {
     "takers": "clear_chance left_chances mean_left last_chances take_chance place_chance weighted_clear",
     "hands": "worth last_hand winning_takes",
     "keepers": "keeper_wins left_value keeper_plan shows_plan",
+    "costs": "least_cost mean_cost cost_paper shows_cost_paper",
+    "swapping": "beside swaps order_parts same_laying turned_pairs",
+    "telling": "told_laying third_order shows_third told_firsts",
+    "returning": "steps_between way_between joined_count farthest state_parts",
+    "rounds": "least_rounds rounds_plan shows_rounds forest_rounds",
 }
 LIBRARY = {
     "math": ("gcd", "lcm", "isqrt", "comb", "perm", "factorial"),

@@ -2,7 +2,7 @@ import unittest
 from math import factorial
 
 import brute
-from brute import COMPLETE, LONG_PATH, LOOSE, PATH, RING_OF_NINE, SINGLE, STAR, TRIANGLE
+from brute import COMPLETE, LONG_PATH, LOOSE, OF_2000, OF_2001, PATH, RING_OF_NINE, SINGLE, STAR, TRIANGLE
 from cointakes.errors import BadIndex, TooMany
 from cointakes.orders import (
     all_orders, can_clear, clears, laying_of, next_order, order_at, order_count, order_number,
@@ -11,14 +11,6 @@ from exact import ExactCase
 
 UP = (1, 1, 1)
 STAR_LEAVES_FIRST = (1, 1, 1, 1, 1, 1, 1, 1, 1)
-OF_2000 = (
-    (9, ((0, 7), (1, 2), (1, 6), (1, 8), (2, 5), (3, 4), (3, 5), (3, 6), (3, 8), (4, 7), (5, 8), (6, 7))),
-    (0, 0, 1, 1, 1, 0, 0, 0, 0),
-)
-OF_2001 = (
-    (9, ((0, 2), (0, 3), (0, 5), (0, 6), (0, 8), (1, 3), (1, 5), (1, 6), (2, 3), (2, 4), (4, 6), (4, 7), (7, 8))),
-    (0, 1, 1, 0, 0, 0, 0, 1, 1),
-)
 
 
 class Orders(ExactCase):

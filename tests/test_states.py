@@ -1,6 +1,6 @@
 import unittest
 from fractions import Fraction
-from itertools import combinations, permutations
+from itertools import permutations
 from math import factorial
 
 import brute
@@ -11,19 +11,6 @@ from exact import ExactCase
 UP = (1, 1, 1)
 
 
-def states(web):
-    return [state for size in range(web[0] + 1) for state in combinations(range(web[0]), size)]
-
-
-def left_over(web, laying, state):
-    """The laying of a state, coin by coin."""
-    coins = []
-    for place, coin in enumerate(laying):
-        turns = sum(other in state for other in brute.near(web, place))
-        coins.append(None if place in state else coin if turns % 2 == 0 else 1 - coin)
-    return tuple(coins)
-
-
 def ratio(part, whole):
     value = Fraction(part, whole)
     return value.numerator, value.denominator
@@ -31,7 +18,7 @@ def ratio(part, whole):
 
 class States(ExactCase):
     def check(self, web, laying, state):
-        behind = left_over(web, laying, state)
+        behind = brute.laying_in(web, laying, state)
         left = [place for place in range(web[0]) if place not in state]
         on = [order for order in permutations(left) if brute.play(web, behind, order) is not None]
         to = [order for order in permutations(state) if brute.play(web, laying, order) is not None]
@@ -52,14 +39,14 @@ class States(ExactCase):
         for many in (1, 2, 3):
             for web in brute.all_webs(many):
                 for laying in brute.full_layings(web):
-                    for state in states(web):
+                    for state in brute.states(web):
                         self.check(web, laying, state)
 
     def test_all_states_of_larger_webs(self):
         webs = brute.all_webs(4)[::3] + [brute.SQUARE, brute.TADPOLE]
         for web in webs:
             for laying in brute.full_layings(web)[::3]:
-                for state in states(web):
+                for state in brute.states(web):
                     self.check(web, laying, state)
 
     def test_no_coin_taken(self):
