@@ -38,8 +38,8 @@ def swaps(web, one, other):
         return None
     if order_count(web, laying) > MOST_ORDERS:
         raise TooMany(MOST_ORDERS)
-    # No exchange turns an edge, so that the way stays. In an order that is not yet the other one of its way, two places
-    # follow one another that share no edge and go otherwise there: to exchange them leaves one turned pair less.
+    # No exchange turns an edge, so that the way stays. As long as two orders of one way are unlike, two places follow
+    # one another in the first that go otherwise in the second, and so share no edge: an exchange turns this pair back.
     if way_of(web, one) != way_of(web, other):
         return None
     return turned_pairs(web, one, other)
