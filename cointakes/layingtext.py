@@ -67,8 +67,8 @@ def read_edges(text, start, many):
 def read_edge(text, at, many, last):
     """The edge of two digits, parted by "-", at an index, behind a last one."""
     low = digit_at(text, at)
-    # Of all edges with this first digit the greatest one would end in the greatest place.
-    if low is None or low >= many or (low, many - 1) <= last:
+    # What can stand behind the first digit is not asked here: it stands if it is a place and no less than the last one.
+    if low is None or low >= many or low < last[0]:
         raise InvalidText(at)
     if text[at + 1:at + 2] != "-":
         raise InvalidText(at + 1)

@@ -124,18 +124,34 @@ class Reading(ExactCase):
         self.wrong("HTH: 0-2 0-1x", 9)
 
     def test_first_character_of_an_edge_that_is_wrong_twice(self):
-        self.wrong("HTH: 1-2 1-0", 9)
-        self.wrong("HTH: 1-2 1-1", 9)
         self.wrong("HTH: 1-2 0-0", 9)
         self.wrong("HTH: 1-2 0-7", 9)
+        self.wrong("HTH: 1-2 1-0", 11)
+        self.wrong("HTH: 1-2 1-1", 11)
+        self.wrong("HTH: 1-2 1-2x", 9)
 
-    def test_first_digit_that_no_greater_edge_has(self):
+    def test_first_digit_less_than_that_of_the_edge_before(self):
         for rest in ("", "-", "x", " -1", "-x", "-0", "-1", "-2", "-7", "1"):
             self.wrong("HTH: 1-2 0" + rest, 9)
-            self.wrong("HTH: 1-2 1" + rest, 9)
             self.wrong("HTHH: 0-1 2-3 1" + rest, 14)
-            self.wrong("HTHH: 0-3 0" + rest, 10)
         self.wrong("HTHHTH: 2-4 1-5", 12)
+
+    def test_first_digit_that_no_greater_edge_has(self):
+        for start, digit, at in (("HTH: 1-2 ", "1", 9), ("HTHH: 0-3 ", "0", 10), ("HT: 0-1 ", "0", 8), ("HTH: 1-2 ", "2", 9)):
+            for rest in ("", "x", " ", " -1", "1", ":"):
+                self.wrong(start + digit + rest, at + 1)
+            for rest in ("-", "-x", "- 2", "-" + digit, "-9", "--"):
+                self.wrong(start + digit + rest, at + 2)
+        self.wrong("HT: 0-1 0-2", 10)
+        self.wrong("HTH: 1-2 1-3", 11)
+        self.wrong("HT: 0-1 1-0", 10)
+        self.wrong("HTH: 0-2 0-0", 11)
+
+    def test_whole_edge_that_is_not_greater(self):
+        self.wrong("HTH: 1-2 1-2", 9)
+        self.wrong("HT: 0-1 0-1", 8)
+        self.wrong("HTH: 0-2 0-1", 9)
+        self.wrong("HTHH: 0-3 0-2", 10)
 
     def test_unfinished_edge_whose_first_digit_can_stand(self):
         self.wrong("HTH: 0-1 0", 10)
