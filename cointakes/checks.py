@@ -1,7 +1,7 @@
 """Whether arguments are what the functions ask for, and the errors if they are not."""
 
-from cointakes.errors import BadCount, BadFalls, BadFlag, BadLaying, BadOrder, BadPlace, BadPrices, BadRing, BadRow
-from cointakes.errors import BadState, BadTold, BadWay, BadWeb, BadWeights
+from cointakes.errors import BadCount, BadFalls, BadFlag, BadLaying, BadOrder, BadPair, BadPlace, BadPrices, BadRing
+from cointakes.errors import BadRow, BadSight, BadState, BadTold, BadWay, BadWeb, BadWeights
 
 MOST_PLACES = 9
 MOST_PRICE = 1000
@@ -82,6 +82,23 @@ def check_full(web, laying):
     for index, coin in enumerate(laying):
         if not is_between(coin, 0, 1):
             raise BadLaying(index)
+
+
+def check_pair(value):
+    """Raise BadPair for a value that is not a pair of a web and a full laying of it."""
+    if not is_tuple_of(value, 2):
+        raise BadPair("not a pair")
+    try:
+        check_web(value[0])
+        check_full(value[0], value[1])
+    except (BadWeb, BadLaying):
+        raise BadPair("not a web and a full laying of it") from None
+
+
+def check_sight(web, sight):
+    """Raise BadSight for a value that is no sight of a web."""
+    if not is_tuple_of(sight, web[0]) or not all([coin is None or is_between(coin, 0, 1) for coin in sight]):
+        raise BadSight("not a tuple with 0, 1 or None for each place")
 
 
 def is_place(web, value):
@@ -179,6 +196,12 @@ def check_ring(ring):
     """Raise BadRing for a value that is no ring."""
     if not is_coins(ring, LEAST_IN_RING, MOST_IN_RING):
         raise BadRing(f"not a tuple of {LEAST_IN_RING} to {MOST_IN_RING} integers 0 or 1")
+
+
+def check_head(coins, place):
+    """Raise BadPlace for a value that is no place with a head up of a row or a ring."""
+    if not is_between(place, 0, len(coins) - 1) or coins[place] != 1:
+        raise BadPlace("no place with a head up")
 
 
 def check_count(many, most):

@@ -20,3 +20,17 @@ def ratio_sum(ratios):
 def ratio_product(one, other):
     """The product of two ratios."""
     return ratio_of(one[0] * other[0], one[1] * other[1])
+
+
+def ratio_mean(ratios):
+    """The mean of a list of ratios that is not empty."""
+    numerator, denominator = ratio_sum(ratios)
+    return ratio_of(numerator, denominator * len(ratios))
+
+
+def chances_of(counts):
+    """The tuple of the shares of some counts in their sum, None if that is 0."""
+    total = sum(counts)
+    if total == 0:
+        return None
+    return tuple([ratio_of(count, total) for count in counts])

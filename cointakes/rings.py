@@ -1,7 +1,6 @@
 """Rings: point 15."""
 
-from cointakes.checks import check_ring, is_between
-from cointakes.errors import BadPlace
+from cointakes.checks import check_head, check_ring
 from cointakes.rows import row_count
 
 
@@ -21,8 +20,7 @@ def ring_first(ring):
 def ring_opened(ring, place):
     """The row that is left behind the take of a place, from the place behind it on."""
     check_ring(ring)
-    if not is_between(place, 0, len(ring) - 1) or ring[place] != 1:
-        raise BadPlace("no place with a head up")
+    check_head(ring, place)
     row = list(ring[place + 1:] + ring[:place])
     row[0] = 1 - row[0]
     row[-1] = 1 - row[-1]

@@ -77,20 +77,43 @@ def takes_of(near, coins):
     return [(place, lying_behind(near, coins, place)) for place, coin in enumerate(coins) if coin == 1]
 
 
+def number_in(near, coins, order, counted):
+    """The number of an order among those in which all coins can be taken, None if they cannot be taken in it.
+
+    counted tells in how many orders all coins that are left can be taken.
+    """
+    number = 0
+    left = coins
+    for place in order:
+        if left[place] != 1:
+            return None
+        number += sum([counted(behind) for other, behind in takes_of(near, left) if other < place])
+        left = lying_behind(near, left, place)
+    return number
+
+
+def order_with(near, coins, number, counted):
+    """The order with a number among those in which all coins can be taken; counted as in number_in."""
+    order = []
+    left = coins
+    skipped = 0
+    while len(order) < len(coins):
+        for place, behind in takes_of(near, left):
+            many = counted(behind)
+            if number < skipped + many:
+                break
+            skipped += many
+        order.append(place)
+        left = behind
+    return tuple(order)
+
+
 def row_number(row, order):
     """The number of an order among those that clear a row, ascending, None if it does not."""
     check_row(row)
     line = line_of(len(row))
     check_order(line, order)
-    near = near_masks(line)
-    number = 0
-    coins = row
-    for place in order:
-        if coins[place] != 1:
-            return None
-        number += sum([count_left(behind) for other, behind in takes_of(near, coins) if other < place])
-        coins = lying_behind(near, coins, place)
-    return number
+    return number_in(near_masks(line), row, order, count_left)
 
 
 def row_at(row, index):
@@ -98,19 +121,7 @@ def row_at(row, index):
     check_row(row)
     if not is_between(index, 0, row_count(row) - 1):
         raise BadIndex("no order has this number")
-    near = near_masks(line_of(len(row)))
-    order = []
-    coins = row
-    left = index
-    while len(order) < len(row):
-        for place, behind in takes_of(near, coins):
-            many = count_left(behind)
-            if left < many:
-                break
-            left -= many
-        order.append(place)
-        coins = behind
-    return tuple(order)
+    return order_with(near_masks(line_of(len(row))), row, index, count_left)
 
 
 def greatest_row(many):

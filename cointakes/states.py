@@ -2,7 +2,7 @@
 
 from cointakes.checks import check_full, check_state, check_web
 from cointakes.masks import mask_of, near_masks, places_in
-from cointakes.ratios import ratio_of
+from cointakes.ratios import chances_of
 from cointakes.tables import on_table, ready_table, to_table
 
 
@@ -66,8 +66,4 @@ def safe_takes(web, laying, state):
 def next_chances(web, laying, state):
     """For each place the chance that a way on begins with it; None without ways on or without coins left."""
     check_all(web, laying, state)
-    counts = begun_counts(web, laying, state)
-    total = sum(counts)
-    if total == 0:
-        return None
-    return tuple([ratio_of(count, total) for count in counts])
+    return chances_of(begun_counts(web, laying, state))

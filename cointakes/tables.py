@@ -3,14 +3,19 @@
 from cointakes.masks import head_mask, lowest_in, lying_mask, near_masks, places_in
 
 
-def ready_table(web, laying):
-    """For each state the set of the places with heads up; what is empty at first stays so in all states."""
+def turned_table(web, heads):
+    """For each state the set of the places with heads up, as if all coins lay there still."""
     near = near_masks(web)
-    turned = [head_mask(laying)]
+    turned = [heads]
     for state in range(1, 1 << web[0]):
         turned.append(turned[state & (state - 1)] ^ near[lowest_in(state)])
+    return turned
+
+
+def ready_table(web, laying):
+    """For each state the set of the places with heads up; what is empty at first stays so in all states."""
     lying = lying_mask(laying)
-    return [heads & lying & ~state for state, heads in enumerate(turned)]
+    return [heads & lying & ~state for state, heads in enumerate(turned_table(web, head_mask(laying)))]
 
 
 def on_table(ready):

@@ -3,7 +3,7 @@
 from cointakes.checks import check_full, check_place, check_web
 from cointakes.errors import BadPlace
 from cointakes.masks import places_in
-from cointakes.ratios import ratio_of
+from cointakes.ratios import chances_of, ratio_of
 from cointakes.tables import on_table, ready_table, to_table
 
 
@@ -32,11 +32,7 @@ def time_chances(web, laying, place):
     check_web(web)
     check_full(web, laying)
     check_place(web, place)
-    counts = time_table(web, laying)[place]
-    total = sum(counts)
-    if total == 0:
-        return None
-    return tuple([ratio_of(count, total) for count in counts])
+    return chances_of(time_table(web, laying)[place])
 
 
 def mean_times(web, laying):

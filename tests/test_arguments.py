@@ -3,8 +3,9 @@
 import unittest
 from itertools import combinations
 
-from cointakes import costs, errors, forests, hands, keepers, lasts, layingtext, orders, returning, rings, rounds, rows
-from cointakes import states, swapping, takers, telling, times, turning, ways, webs
+from cointakes import costs, errors, falls, forests, hands, keepers, lasts, layingtext, longrings, longrows, orders
+from cointakes import renaming, returning, rings, rounds, rows, sights, states, swapping, takers, telling, times, turning
+from cointakes import ways, webs
 from exact import ExactCase
 
 WEB = (3, ((0, 1), (1, 2)))
@@ -94,18 +95,25 @@ WRONG = {
         plain("BadPlace", *ODD, 0, (3,), (-1,), (0, 3), (0, 0), (0, 1, 0), (0, 1, 2, 2), (True,), (0, False), (0, None))
         + plain("BadPlace", ("0",), ((0,),), ([],), ({}, 0), [0], [], {}, "0", {0: 0})
     ),
+    "sight": (
+        plain("BadSight", *ODD, 0, (), (1, 1), (1, 1, 1, 1), [1, 1, 1], [None, None, None], "HTH", (2, 1, 1), (-1, None, None))
+        + plain("BadSight", (True, 1, 1), (None, False, None), (None, None, "1"), (0, (1,), 1), (None, [], None), (0, 1, 2 ** 70))
+    ),
+    "pair": plain("BadPair", *ODD, 0, (), (WEB,), (WEB, (1, 1, 1), 0), [WEB, (1, 1, 1)], ((1, 1, 1), WEB), (None, None), "ab"),
     "text": plain("NotText", *[value for value in ODD if not isinstance(value, str)], 0, (), ("H",), ["H"]),
 }
+WRONG["pair"] += plain("BadPair", *[(row[0], (1, 1, 1)) for row in WRONG["web"]], *[(WEB, row[0]) for row in WRONG["full"]])
 RIGHT = {
     "web": WEB, "laying": (1, 1, 1), "full": (1, 1, 1), "place": 0, "places": (0, 2), "order": (0, 2, 1), "number": 0,
     "text": "HTH: 0-1 1-2", "edge": 1, "way": (0, 1), "state": (0, 2), "prices": (0, 1000, 7), "value": (0, (1, 1, 1)),
     "other": 2, "weights": (1, 100, 7), "flag": True, "row": (1, 1, 1), "ring": (1, 1, 0), "head": 1, "to_forty": 3,
     "to_nine": 3, "falls": (1,), "told": ((0, 2, 1), (1, 0, 2)), "firsts": (2, 0), "next_state": (1,),
-    "next_order": (2, 0, 1),
+    "next_order": (2, 0, 1), "sight": (1, None, 0), "pair": (WEB, (1, 0, 0)), "next_pair": ((2, ()), (1, 0)),
 }
 WRONG["other"] = WRONG["place"]
 WRONG["next_state"] = WRONG["state"]
 WRONG["next_order"] = WRONG["order"]
+WRONG["next_pair"] = WRONG["pair"]
 # Each value is judged, so that none of them is wrong.
 WRONG["value"] = []
 CALLS = (
@@ -205,6 +213,32 @@ CALLS = (
     (rounds.rounds_plan, "web full"),
     (rounds.shows_rounds, "web full value"),
     (rounds.forest_rounds, "web full"),
+    (renaming.renamings, "web laying"),
+    (renaming.least_form, "web full"),
+    (renaming.are_alike, "pair next_pair"),
+    (renaming.orders_alike, "web full"),
+    (renaming.places_alike, "web laying"),
+    (sights.fit_count, "web sight"),
+    (sights.least_fit, "web sight"),
+    (sights.sure_coins, "web sight"),
+    (sights.next_seen, "web sight"),
+    (sights.seen_orders, "web sight"),
+    (longrows.row_left, "row"),
+    (longrows.row_worth, "row"),
+    (longrows.row_wins, "row"),
+    (longrows.row_chance, "row"),
+    (longrows.row_mean_left, "row"),
+    (falls.orders_by_falls, "to_forty"),
+    (falls.rows_by_falls, "to_forty"),
+    (falls.row_mirrored, "row"),
+    (falls.row_turned, "row place"),
+    (falls.row_times, "row place"),
+    (longrings.ring_left, "ring"),
+    (longrings.ring_worth, "ring"),
+    (longrings.ring_chance, "ring"),
+    (longrings.ring_mean_left, "ring"),
+    (longrings.ring_number, "ring order"),
+    (longrings.ring_at, "ring number"),
 )
 
 

@@ -85,6 +85,23 @@ raises InvalidText(place=6)
 >>> web, up = (3, ((0, 1), (1, 2))), (1, 1, 1)
 >>> [least_rounds(web, up), shows_rounds(web, up, ((0, 2), (1,))), forest_rounds(web, (1, 0, 0)), least_rounds(web, (1, 1, 0))]
 [2, True, 3, None]
+>>> from cointakes.renaming import are_alike, least_form, orders_alike, places_alike, renamings
+>>> web, up = (3, ((0, 1), (1, 2))), (1, 1, 1)
+>>> [renamings(web, up), orders_alike(web, up), places_alike(web, up), least_form(web, up), are_alike((web, (1, 0, 0)), (web, (0, 0, 1)))]
+[2, 1, ((0, 2), (1,)), ((3, ((0, 1), (0, 2))), (1, 1, 1)), True]
+>>> from cointakes.sights import fit_count, least_fit, next_seen, seen_orders, sure_coins
+>>> web, none = (3, ((0, 1), (1, 2))), (None, None, None)
+>>> [fit_count(web, none), least_fit(web, (1, 1, None)), sure_coins(web, (1, 1, None)), next_seen(web, (1, None, None)), seen_orders(web, none)]
+[4, (1, 1, 1), (1, 1, 1), 1, 6]
+>>> from cointakes.longrows import row_chance, row_left, row_mean_left, row_wins, row_worth
+>>> [row_left((0, 1, 1, 0)), row_worth((1, 1, 0)), row_wins((1, 1, 1)), row_chance((1, 1, 1)), row_mean_left((1, 1, 1))]
+[(2, 2), 2, (0, 1, 2), (2, 3), (2, 3)]
+>>> from cointakes.falls import orders_by_falls, row_mirrored, row_times, row_turned, rows_by_falls
+>>> [orders_by_falls(3), rows_by_falls(4), row_turned((1, 1, 1), 1), row_times((1, 1, 1), 0)]
+[(1, 4, 1), (1, 3, 3, 1), ((0,), (0,)), ((1, 2), (1, 2), (0, 1))]
+>>> from cointakes.longrings import ring_at, ring_chance, ring_left, ring_mean_left, ring_number, ring_worth
+>>> [ring_left((1, 1, 1)), ring_worth((1, 1, 0)), ring_chance((1, 1, 0)), ring_number((1, 1, 0), (1, 2, 0)), ring_at((1, 1, 0), 0)]
+[(2, 2), 1, (1, 1), 1, (0, 2, 1)]
 '''
 
 

@@ -31,6 +31,11 @@ INTERFACE = {
     "telling": "told_laying third_order shows_third told_firsts",
     "returning": "steps_between way_between joined_count farthest state_parts",
     "rounds": "least_rounds rounds_plan shows_rounds forest_rounds",
+    "renaming": "renamings orders_alike least_form are_alike places_alike",
+    "sights": "fit_count seen_orders least_fit sure_coins next_seen",
+    "longrows": "row_left row_worth row_wins row_chance row_mean_left",
+    "falls": "orders_by_falls rows_by_falls row_mirrored row_turned row_times",
+    "longrings": "ring_left ring_worth ring_chance ring_mean_left ring_number ring_at",
 }
 LIBRARY = {
     "math": ("gcd", "lcm", "isqrt", "comb", "perm", "factorial"),
