@@ -1,7 +1,7 @@
 """Whether arguments are what the functions ask for, and the errors if they are not."""
 
-from cointakes.errors import BadCount, BadFalls, BadFlag, BadLaying, BadOrder, BadPair, BadPlace, BadPrices, BadRing
-from cointakes.errors import BadRow, BadSight, BadState, BadTold, BadWay, BadWeb, BadWeights
+from cointakes.errors import BadCoin, BadCount, BadFalls, BadFlag, BadLaying, BadOrder, BadPair, BadPlace, BadPrices
+from cointakes.errors import BadRing, BadRow, BadSight, BadState, BadTold, BadWay, BadWeb, BadWeights
 
 MOST_PLACES = 9
 MOST_PRICE = 1000
@@ -117,6 +117,14 @@ def check_place(web, place):
         raise BadPlace("not a place of the web")
 
 
+def check_two_places(web, one, other):
+    """Raise BadPlace for values that are not two unlike places of a web."""
+    check_place(web, one)
+    check_place(web, other)
+    if one == other:
+        raise BadPlace("the same place twice")
+
+
 def check_places(web, places):
     """Raise BadPlace for a value that is not a tuple of places of a web."""
     if not is_places(web, places):
@@ -178,6 +186,12 @@ def check_weights(web, weights):
     """Raise BadWeights for a value that does not hold a weight for each place."""
     if not is_tuple_of(weights, web[0]) or not all([is_between(weight, 1, MOST_WEIGHT) for weight in weights]):
         raise BadWeights("not a tuple with a weight for each place")
+
+
+def check_coin(coin):
+    """Raise BadCoin for a value that is neither 0 nor 1."""
+    if not is_between(coin, 0, 1):
+        raise BadCoin("neither 0 nor 1")
 
 
 def check_flag(value):

@@ -10,11 +10,16 @@ DIGITS = "0123456789"
 NO_EDGE = (-1, -1)
 
 
+def coin_signs(laying):
+    """The text of the coins of a laying."""
+    return "".join([SIGNS[coin] for coin in laying])
+
+
 def write_laying(web, laying):
     """The text of a web and a laying."""
     check_web(web)
     check_laying(web, laying)
-    coins = "".join([SIGNS[coin] for coin in laying])
+    coins = coin_signs(laying)
     if not web[1]:
         return coins
     edges = " ".join([f"{low}-{high}" for low, high in web[1]])

@@ -37,15 +37,21 @@ def to_table(ready):
     return to
 
 
-def clear_masks(web):
-    """The ascending list of the sets of heads of all full layings that can be cleared."""
+def clear_counts(web):
+    """For the set of heads of each full laying that can be cleared the number of orders that clear it."""
     near = near_masks(web)
-    found = [{0: True}]
+    found = [{0: 1}]
     for left in range(1, 1 << web[0]):
-        heads = {}
+        counts = {}
         for place in places_in(left):
             turned = near[place] & left
-            for behind in found[left ^ 1 << place]:
-                heads[(behind ^ turned) | 1 << place] = True
-        found.append(heads)
-    return sorted(found[-1])
+            for behind, count in found[left ^ 1 << place].items():
+                heads = (behind ^ turned) | 1 << place
+                counts[heads] = counts.get(heads, 0) + count
+        found.append(counts)
+    return found[-1]
+
+
+def clear_masks(web):
+    """The ascending list of the sets of heads of all full layings that can be cleared."""
+    return sorted(clear_counts(web))

@@ -1,7 +1,6 @@
 """Times of places in the orders that clear a laying: point 11."""
 
-from cointakes.checks import check_full, check_place, check_web
-from cointakes.errors import BadPlace
+from cointakes.checks import check_full, check_place, check_two_places, check_web
 from cointakes.masks import places_in
 from cointakes.ratios import chances_of, ratio_of
 from cointakes.tables import on_table, ready_table, to_table
@@ -51,10 +50,7 @@ def ahead_chance(web, laying, one, other):
     """The chance that a place goes before another one, None if the laying cannot be cleared."""
     check_web(web)
     check_full(web, laying)
-    check_place(web, one)
-    check_place(web, other)
-    if one == other:
-        raise BadPlace("the same place twice")
+    check_two_places(web, one, other)
     rows = [(state, number) for state, place, number in take_rows(web, laying) if place == one]
     total = sum([number for _, number in rows])
     if total == 0:

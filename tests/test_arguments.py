@@ -3,10 +3,12 @@
 import unittest
 from itertools import combinations
 
-from cointakes import costs, errors, falls, forests, hands, keepers, lasts, layingtext, longrings, longrows, orders
-from cointakes import renaming, returning, rings, rounds, rows, sights, states, swapping, takers, telling, times, turning
-from cointakes import ways, webs
+from cointakes import bearings, costs, counting, errors, falls, forests, gaps, hands, keepers, lasts, layingtext, leaves
+from cointakes import longrings, longrows, orders, renaming, returning, rings, rounds, rows, sights, states, swapping
+from cointakes import takers, telling, times, turning, ways, webs
+from cointakes.desk import Desk
 from exact import ExactCase
+from interface import FUNCTIONS
 
 WEB = (3, ((0, 1), (1, 2)))
 ODD = (None, True, False, -1, 10, 2 ** 70, "", "web", "012", [], {}, {0: 1}, [0, 1, 2], ("0", "1", "2"), ((),), {"a": ()})
@@ -81,6 +83,8 @@ WRONG = {
     "head": plain("BadPlace", *ODD, 2, 3, 20, (), (0,), "0", [0]),
     "to_forty": plain("BadCount", *[value for value in ODD if value != 10], 0, -40, 41, (), (3,), [3], "3"),
     "to_nine": plain("BadCount", *ODD, 0, -9, (), (3,), [3], "3"),
+    "to_six": plain("BadCount", *ODD, 0, 7, -6, 9, (), (3,), [3], "3"),
+    "coin": plain("BadCoin", *[value for value in ODD if value is not None], None, 2, (), (0,), (1,), "0", "1", [1]),
     "falls": (
         plain("BadFalls", *ODD, 0, 1, (2,), (-1,), (0, 2), (0, 0), (1, 1), (1, 0), (0, 1, 1), (0, 1, 2), (True,), (0, True))
         + plain("BadFalls", (False, 1), (None,), ("0",), ((0,),), (0, []), [0], [], "0")
@@ -109,13 +113,28 @@ RIGHT = {
     "other": 2, "weights": (1, 100, 7), "flag": True, "row": (1, 1, 1), "ring": (1, 1, 0), "head": 1, "to_forty": 3,
     "to_nine": 3, "falls": (1,), "told": ((0, 2, 1), (1, 0, 2)), "firsts": (2, 0), "next_state": (1,),
     "next_order": (2, 0, 1), "sight": (1, None, 0), "pair": (WEB, (1, 0, 0)), "next_pair": ((2, ()), (1, 0)),
+    "coin": 0, "to_six": 3, "next_way": (1, 1), "line": "take 2",
 }
 WRONG["other"] = WRONG["place"]
 WRONG["next_state"] = WRONG["state"]
 WRONG["next_order"] = WRONG["order"]
 WRONG["next_pair"] = WRONG["pair"]
+WRONG["next_way"] = WRONG["way"]
+WRONG["line"] = WRONG["text"]
 # Each value is judged, so that none of them is wrong.
 WRONG["value"] = []
+
+
+def new_desk(web, laying):
+    desk = Desk(web, laying)
+    return desk.laying, desk.steps
+
+
+def run_at_desk(web, laying, text):
+    desk = Desk(web, laying)
+    return desk.run(text), desk.laying, desk.steps
+
+
 CALLS = (
     (webs.neighbours, "web place"),
     (webs.parts, "web"),
@@ -239,6 +258,52 @@ CALLS = (
     (longrings.ring_mean_left, "ring"),
     (longrings.ring_number, "ring order"),
     (longrings.ring_at, "ring number"),
+    (gaps.gap_chances, "web full place other"),
+    (gaps.mean_gap, "web full"),
+    (leaves.leafed, "web laying place coin"),
+    (leaves.leaf_pair, "web full place"),
+    (counting.layings_by_count, "web"),
+    (counting.most_orders, "web"),
+    (counting.heads_by_count, "web"),
+    (counting.tree_count, "to_nine"),
+    (counting.tree_orders, "to_six"),
+    (new_desk, "web laying"),
+    (run_at_desk, "web laying line"),
+    (bearings.is_way, "web way"),
+    (bearings.way_orders, "web way"),
+    (bearings.way_rank, "web way"),
+    (bearings.way_turned, "web way"),
+    (bearings.fewest_between, "web way next_way"),
+    (bearings.ways_of, "web full"),
+    (bearings.unsure_count, "web"),
+    (bearings.covers, "web way place other"),
+    (bearings.earliest, "web way place"),
+    (bearings.latest, "web way place"),
+    (bearings.lines_of, "web way"),
+    (bearings.widest, "web way"),
+)
+LOOSE = (9, ())
+RING = (3, ((0, 1), (0, 2), (1, 2)))
+NO_INDEX, BAD_WAY = [7, -1, True, None], [None, (), (0, 1), (0, 1, 2), [0, 1, 0]]
+# Calls with an error that comes behind all others: what is right of them, and for the last argument what is wrong.
+LAST_ERRORS = (
+    (orders.all_orders, (LOOSE, (1,) * 9), "TooMany", 2000, []),
+    (swapping.order_parts, (LOOSE, (1,) * 9), "TooMany", 2000, []),
+    (swapping.swaps, (LOOSE, tuple(range(9)), tuple(range(9))), "TooMany", 2000, [(0, 1), tuple(range(8)) + (True,)]),
+    (forests.odd_way, (RING, (1, 1, 0)), "NotForest", None, []),
+    (forests.first_takes, (RING, (1, 1, 0)), "NotForest", None, []),
+    (forests.last_takes, (RING, (0, 0, 0)), "NotForest", None, []),
+    (forests.forest_count, (RING, (0, 0, 0)), "NotForest", None, []),
+    (forests.laying_of_way, (RING, (0, 0, 0)), "NotForest", None, BAD_WAY),
+    (forests.edge_sides, (RING, (0, 0, 0), 0), "NotForest", None, NO_INDEX),
+    (rounds.forest_rounds, (RING, (0, 0, 0)), "NotForest", None, []),
+    (falls.row_times, ((0,) * 13, 12), "TooMany", 12, [13, -1, True, None, "0"]),
+    (gaps.gap_chances, (LOOSE, (0,) * 9, 0, 1), "TooMany", 7, [0, 9, True, None]),
+    (gaps.mean_gap, (LOOSE, (0,) * 9), "TooMany", 7, []),
+    (leaves.leafed, (LOOSE, (None,) * 9, 0, 1), "TooMany", 9, [2, True, None, "1"]),
+    (leaves.leaf_pair, (RING, (1, 1, 0), 0), "NotForest", None, NO_INDEX),
+    (leaves.leaf_pair, (RING, (0, 0, 0), 0), "NotForest", None, NO_INDEX),
+    (leaves.leaf_pair, (WEB, (1, 1, 0), 0), "NotClear", None, NO_INDEX),
 )
 
 
@@ -278,10 +343,23 @@ class WrongArguments(ExactCase):
                 arguments[wrong[0]] = value
                 self.fails(error, fields, function, *arguments)
 
-    def test_too_many_comes_behind_all_others(self):
-        loose = (9, ())
-        self.fails(errors.TooMany, {"most": 2000}, orders.all_orders, loose, (1,) * 9)
-        self.fails(errors.BadLaying, {"index": 8}, orders.all_orders, loose, (1,) * 8 + (True,))
+    def test_every_function_of_the_interface_is_called(self):
+        called = {(function.__module__, function.__name__) for function, _ in CALLS}
+        listed = {(f"cointakes.{stem}", name) for stem, told in FUNCTIONS.items() for name in told}
+        self.assertEqual(called - {(__name__, "new_desk"), (__name__, "run_at_desk")}, listed)
+
+    def test_errors_behind_all_others(self):
+        for function, arguments, name, most, wrong in LAST_ERRORS:
+            fields = {} if most is None else {"most": most}
+            self.fails(getattr(errors, name), fields, function, *arguments)
+            for value in wrong:
+                with self.assertRaises(errors.CoinError) as caught:
+                    function(*arguments[:-1], value)
+                self.assertNotIn(caught.exception.__class__.__name__, ("TooMany", "NotForest", "NotClear"))
+            for k, argument in enumerate(arguments):
+                with self.assertRaises(errors.CoinError) as caught:
+                    function(*arguments[:k], [argument], *arguments[k + 1:])
+                self.assertNotIn(caught.exception.__class__.__name__, ("TooMany", "NotForest", "NotClear"))
 
 
 if __name__ == "__main__":

@@ -102,6 +102,26 @@ raises InvalidText(place=6)
 >>> from cointakes.longrings import ring_at, ring_chance, ring_left, ring_mean_left, ring_number, ring_worth
 >>> [ring_left((1, 1, 1)), ring_worth((1, 1, 0)), ring_chance((1, 1, 0)), ring_number((1, 1, 0), (1, 2, 0)), ring_at((1, 1, 0), 0)]
 [(2, 2), 1, (1, 1), 1, (0, 2, 1)]
+>>> from cointakes.gaps import gap_chances, mean_gap
+>>> web, up = (3, ((0, 1), (1, 2))), (1, 1, 1)
+>>> [gap_chances(web, up, 0, 2), mean_gap(web, up)]
+[((-1, (1, 2)), (1, (1, 2))), (4, 3)]
+>>> from cointakes.leaves import leaf_pair, leafed
+>>> web, up = (3, ((0, 1), (1, 2))), (1, 1, 1)
+>>> [leafed(web, up, 1, 0), leaf_pair(web, up, 1), leaf_pair(web, up, 0)]
+[((4, ((0, 1), (1, 2), (1, 3))), (1, 1, 1, 0)), (6, 2), (3, 5)]
+>>> from cointakes.counting import heads_by_count, layings_by_count, most_orders, tree_count, tree_orders
+>>> web = (3, ((0, 1), (1, 2)))
+>>> [layings_by_count(web), most_orders(web), heads_by_count(web), tree_count(4), tree_orders(3)]
+[((0, 4), (1, 2), (2, 2)), (2, (0, 1, 0)), (0, 3, 0, 1), 16, 2]
+>>> from cointakes.desk import Desk
+>>> desk = Desk((3, ((0, 1), (1, 2))), (1, 1, 1))
+>>> [desk.run("ways"), desk.run("take 0"), desk.run("lie"), desk.run("heads"), desk.run("worth"), desk.run("back 0"), desk.laying, desk.undo(), desk.steps]
+['2', None, '.TH', '2', '0', None, (1, 1, 1), None, ('take 0',)]
+>>> from cointakes.bearings import earliest, is_way, latest, lines_of, way_orders, way_rank, ways_of, widest
+>>> web, ring = (3, ((0, 1), (1, 2))), (3, ((0, 1), (0, 2), (1, 2)))
+>>> [is_way(ring, (0, 1, 0)), way_orders(web, (0, 1)), way_rank(web, (0, 0)), ways_of(ring, (1, 1, 0)), earliest(web, (0, 1), 1), latest(web, (0, 1), 0), lines_of(web, (0, 1)), widest(web, (0, 1))]
+[False, 2, (0, 1, 2), [(0, 0, 1), (1, 1, 0)], 2, 1, 2, 2]
 '''
 
 

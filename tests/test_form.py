@@ -6,43 +6,16 @@ import re
 import unittest
 from pathlib import Path
 
+from interface import DEFINED
+
 PACKAGE = Path(__file__).resolve().parent.parent / "cointakes"
 FILES = sorted(PACKAGE.rglob("*.py"))
-INTERFACE = {
-    "errors": """CoinError BadWeb BadLaying BadPlace BadOrder BadEdge NotForest BadIndex TooMany NotText InvalidText
-        BadWay BadState BadPrices BadRow BadCount BadFalls BadRing BadWeights BadFlag BadTold BadPair BadSight BadCoin
-        NotClear NothingToUndo NothingToRedo InvalidLine""",
-    "webs": "neighbours parts is_forest is_tree without heads taken taken_all",
-    "layingtext": "write_laying read_laying",
-    "orders": "laying_of clears can_clear order_count all_orders order_number order_at next_order",
-    "ways": "way_of way_count ways_for laying_count least_laying is_even",
-    "forests": "odd_way first_takes last_takes laying_of_way forest_count edge_sides",
-    "states": "laying_behind ready ways_on ways_to safe_takes next_chances",
-    "lasts": "met_count last_states fewest_left most_left only_left is_sure",
-    "times": "time_chances mean_times ahead_chance",
-    "turning": "fewest_turned cheapest_turn shows_turn turned_for",
-    "rows": "row_falls row_of_falls row_count row_first row_number row_at greatest_row rows_by_count",
-    "rings": "ring_count ring_first ring_opened",
-    "takers": "clear_chance left_chances mean_left last_chances take_chance place_chance weighted_clear",
-    "hands": "worth last_hand winning_takes",
-    "keepers": "keeper_wins left_value keeper_plan shows_plan",
-    "costs": "least_cost mean_cost cost_paper shows_cost_paper",
-    "swapping": "beside swaps order_parts same_laying turned_pairs",
-    "telling": "told_laying third_order shows_third told_firsts",
-    "returning": "steps_between way_between joined_count farthest state_parts",
-    "rounds": "least_rounds rounds_plan shows_rounds forest_rounds",
-    "renaming": "renamings orders_alike least_form are_alike places_alike",
-    "sights": "fit_count seen_orders least_fit sure_coins next_seen",
-    "longrows": "row_left row_worth row_wins row_chance row_mean_left",
-    "falls": "orders_by_falls rows_by_falls row_mirrored row_turned row_times",
-    "longrings": "ring_left ring_worth ring_chance ring_mean_left ring_number ring_at",
-}
 LIBRARY = {
     "math": ("gcd", "lcm", "isqrt", "comb", "perm", "factorial"),
     "itertools": ("product", "combinations", "permutations", "chain", "accumulate", "pairwise", "islice", "zip_longest"),
 }
 BUILTINS = """len range enumerate zip min max sum abs sorted reversed int str bool list tuple dict set isinstance ord
-    repr any all divmod map iter next super ValueError KeyError IndexError""".split()
+    repr any all divmod map iter next super property ValueError KeyError IndexError""".split()
 BARRED = (ast.Import, ast.AsyncFunctionDef, ast.AsyncFor, ast.AsyncWith, ast.Await, ast.TryStar, ast.Div, ast.MatMult)
 DECORATORS = ("property", "staticmethod", "classmethod")
 WORDS = """typing typing_extensions enum Enum IntEnum StrEnum Flag IntFlag Generic Protocol ABC ABCMeta namedtuple
@@ -170,8 +143,16 @@ class Form(unittest.TestCase):
 
     def test_interface_stands_in_its_files(self):
         found = {file.stem: defined(tree) for file, tree in trees()}
-        for stem, names in INTERFACE.items():
-            self.assertEqual(set(names.split()) - set(found[stem]), set())
+        for stem, names in DEFINED.items():
+            self.assertEqual(set(names) - set(found[stem]), set())
+
+    def test_methods_stand_in_their_class(self):
+        for file, tree in trees():
+            for node in tree.body:
+                if isinstance(node, ast.ClassDef) and node.name == "Desk":
+                    own = [part.name for part in node.body if isinstance(part, ast.FunctionDef)]
+                    self.assertEqual({"__init__", "run", "undo", "redo", "laying", "steps"} - set(own), set())
+                    self.assertEqual(len(own), len(set(own)))
 
     def test_no_tests_in_the_package(self):
         self.assertEqual([file for file in FILES if file.name.startswith("test")], [])
