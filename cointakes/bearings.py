@@ -138,6 +138,6 @@ def widest(web, way):
     check_bearing(web, way)
     later = later_masks(web, way)
     earlier = earlier_masks(web, way)
-    bound = [(reached(later, place, 0) | reached(earlier, place, 0)) & ~(1 << place) for place in range(web[0])]
+    bound = [reached(later, place, 0) | reached(earlier, place, 0) for place in range(web[0])]
     groups = [group for group, sign in enumerate(group_signs(bound)) if sign != 0]
     return max([len(places_in(group)) for group in groups])
